@@ -31,16 +31,18 @@ func Unquote(s string) (string, bool) {
 		return "", false
 	}
 	rest := s[1 : len(s)-1]
-	out := make([]byte, 0, len(rest))
+	// A builder's text is new memory even if it is one byte, which a conversion of bytes is not.
+	var out strings.Builder
+	out.Grow(len(rest))
 	for rest != "" {
 		b, size := first(rest)
 		if size == 0 {
 			return "", false
 		}
-		out = append(out, b)
+		out.WriteByte(b)
 		rest = rest[size:]
 	}
-	return string(out), true
+	return out.String(), true
 }
 
 // Plain tells whether s is a plain word.
@@ -90,14 +92,14 @@ line:
 // Join answers the texts of l with a blank between two.
 func Join(l []string) string {
 	// The library's Join would answer a lone text itself, which is no new memory.
-	var out []byte
+	var out strings.Builder
 	for i, s := range l {
 		if i > 0 {
-			out = append(out, blank)
+			out.WriteByte(blank)
 		}
-		out = append(out, s...)
+		out.WriteString(s)
 	}
-	return string(out)
+	return out.String()
 }
 
 // bare tells whether the byte stands for itself in a quoted text.

@@ -277,6 +277,17 @@ func TestAnswersAreNew(t *testing.T) {
 			t.Errorf("Join of %q shares memory", s)
 		}
 	}
+	for i := range 256 {
+		one := string([]byte{byte(i)})
+		a, _ := Unquote(Quote(one))
+		b, _ := Unquote(Quote(one))
+		if shares(a, b) {
+			t.Errorf("Unquote(%q) answers one memory twice", Quote(one))
+		}
+		if shares(Join([]string{one}), Join([]string{one})) {
+			t.Errorf("Join of %q answers one memory twice", one)
+		}
+	}
 	const line = `mkdir "/a b" c`
 	first, _ := Split(line)
 	second, _ := Split(line)
